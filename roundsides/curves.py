@@ -43,13 +43,24 @@ def curve_has(curve, point):
     return worth_at(curve, point) == 0
 
 
+def slopes(six):
+    """How fast the determinant of six numbers rises with each of them."""
+    a, b, c, d, e, f = six
+    return (
+        4 * b * c - d * d,
+        4 * a * c - e * e,
+        4 * a * b - f * f,
+        e * f - 2 * a * d,
+        d * f - 2 * b * e,
+        d * e - 2 * c * f,
+    )
+
+
 def dual_curve(curve):
     """The curve whose points are the lines that touch the curve."""
     need_curve(curve)
-    a, b, c, d, e, f = curve
-    squares = (4 * b * c - d * d, 4 * a * c - e * e, 4 * a * b - f * f)
-    mixed = (2 * e * f - 4 * a * d, 2 * d * f - 4 * b * e, 2 * d * e - 4 * c * f)
-    return kept(squares + mixed)
+    rises = slopes(curve)
+    return kept(rises[:3] + tuple([2 * rise for rise in rises[3:]]))
 
 
 def curve_touches(curve, line):
@@ -57,6 +68,22 @@ def curve_touches(curve, line):
     need_curve(curve)
     need_triple(line)
     return worth_at(dual_curve(curve), line) == 0
+
+
+def meets(six, line):
+    """The six numbers of both points in which a line meets a curve, times one number: two_lines of them, so to say."""
+    a, b, c, d, e, f = six
+    x, y, z = line
+    # At another line they are worth what the curve is worth where both lines cross: 0 just for lines through one of
+    # the two points.
+    return (
+        b * z * z + c * y * y - d * y * z,
+        a * z * z + c * x * x - e * x * z,
+        a * y * y + b * x * x - f * x * y,
+        x * (e * y + f * z - d * x) - 2 * a * y * z,
+        y * (d * x + f * z - e * y) - 2 * b * x * z,
+        z * (d * x + e * y - f * z) - 2 * c * x * y,
+    )
 
 
 def need_five(things):

@@ -52,3 +52,11 @@ def frac_root(fraction):
     if top is None or bottom is None:
         return None
     return (top, bottom)
+
+
+def one_bottom(fractions):
+    """The least bottom that fractions have in common, and the list of their tops over it."""
+    bottom = 1
+    for fraction in fractions:
+        bottom = bottom // common_divisor(bottom, fraction[1]) * fraction[1]
+    return (bottom, [fraction[0] * (bottom // fraction[1]) for fraction in fractions])

@@ -1,5 +1,7 @@
 """Whole numbers, and tuples of them: what the other modules need in common."""
 
+from roundsides.errors import TooMany
+
 
 def is_whole(thing):
     """Whether anything is a whole number; True and False are none, though Python counts them as such."""
@@ -9,6 +11,12 @@ def is_whole(thing):
 def are_wholes(thing, many):
     """Whether anything is a tuple of so many whole numbers."""
     return isinstance(thing, tuple) and len(thing) == many and all([is_whole(part) for part in thing])
+
+
+def need_within(thing, least, most):
+    """Refuses what is no whole number from least to most."""
+    if not is_whole(thing) or thing < least or thing > most:
+        raise TooMany("this is no whole number within the bounds")
 
 
 def common_divisor(one, other):

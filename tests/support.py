@@ -52,6 +52,69 @@ def number_row(seed, many, most):
     return row
 
 
+CIRCLE = (1, 1, -1, 0, 0, 0)
+
+FLAT = [
+    (0, 0, 0, 0, 0, 0), (1, 0, 0, 0, 0, 0), (0, 0, 1, 0, 0, 0), (0, 0, 0, 0, 0, 1), (1, 1, 0, 0, 0, 0),
+    (1, -1, 0, 0, 0, 0), (1, 1, 1, 2, 2, 2), (1, 4, 0, 0, 0, 4), (0, 0, 0, 1, 1, 0), (1, FORTY, 0, 0, 0, 0),
+    (1, FORTY * FORTY, 0, 0, 0, 2 * FORTY),
+]
+
+UNKEPT = [
+    (-1, -1, 1, 0, 0, 0), (2, 2, -2, 0, 0, 0), (0, -1, 0, 0, 2, 0), (0, 0, 0, 2, 2, 2), (3, 3, 3, 0, 0, 6),
+    (-FORTY, 1, 1, 0, 0, 0), (2 * FORTY, 2, 2, 0, 0, 0), (0, 0, 0, 0, 0, 2), (2, 0, 0, 0, 0, 0),
+]
+
+NO_CURVES = anything() + FLAT + UNKEPT + [
+    (1, 0, 0), (1, 2), (1, 1, -1, 0, 0), (1, 1, -1, 0, 0, 0, 0), [1, 1, -1, 0, 0, 0], (1, 1, -1, 0, 0, False),
+]
+
+NO_TRIPLES = anything() + [(0, 0, 0), (2, 0, 0), (-1, 0, 0), (0, -1, 1), (1, 2), CIRCLE, [1, 0, 0], (1, 0, False)]
+
+
+# Two curves each that meet in fewer than four points.
+NO_PAIRS = [
+    (CIRCLE, CIRCLE), (CIRCLE, (1, 1, -4, 0, 0, 0)), (CIRCLE, (4, 1, -1, 0, 0, 0)), (CIRCLE, (1, 1, 0, 0, -1, 0)),
+    ((0, 1, 0, 0, 2, 0), (1, 1, 0, 0, 2, 0)), ((0, 1, 0, 0, 2, 0), (0, 1, 0, 0, 4, 0)),
+    ((0, 1, 0, 0, 2, 0), (0, 1, 1, 0, 2, 0)), (CIRCLE, (FORTY, FORTY, -1, 0, 0, 0)),
+    ((FORTY, 1, -1, 0, 0, 0), (FORTY, 2, -1, 0, 0, 0)),
+]
+
+# Of each the third fraction is 0, or two roots are one.
+FLAT_CUBICS = [
+    ((0, 1), (0, 1), (0, 1)), ((1, 1), (1, 1), (0, 1)), ((-7, 2), (5, 3), (0, 1)),
+    ((3, 1), (3, 1), (1, 1)), ((-3, 2), (3, 4), (-1, 8)), ((4, 1), (5, 1), (2, 1)), ((0, 1), (-3, 1), (2, 1)),
+    ((2, 1), (1, 1), (0, 1)), ((FORTY * 3, 1), (FORTY ** 2 * 3, 1), (FORTY ** 3, 1)),
+]
+
+NO_CUBICS = anything() + FLAT_CUBICS + [
+    (1, 2), (1, 0, 0), (1, 1, 2), CIRCLE, ((1, 1), (1, 1)), ((1, 1),) * 4, ((1, 1), (1, 1), 2), (1, (1, 1), (2, 1)),
+    [(1, 1), (1, 1), (2, 1)], ([1, 1], (1, 1), (2, 1)), ((1, 1), [1, 1], (2, 1)), ((1, 1), (1, 1), [2, 1]),
+    ((1, 1), (1, 1), (4, 2)), ((2, 2), (1, 1), (2, 1)), ((1, 1), (-1, -1), (2, 1)), ((1, 1), (1, 1), (2, 0)),
+    ((1, 1), (1, 1), (2, True)), ((True, 1), (1, 1), (2, 1)), ((1, 1), (False, 1), (2, 1)), ((1, 1), (1, "1"), (2, 1)),
+    ("1/2", "1/3", "1/5"), (None, (1, 1), (2, 1)), ((1, 1), (1, 1), None), ((1, 1), (1, 1), (2, 1, 1)),
+]
+
+# What is no whole number at all, and what is one of thirty figures.
+NO_NUMBERS = [
+    None, True, False, "", "3", "5", "~" * 1000, (), [], (3,), [3], (3, 1), ((3, 1),), nested(20), THIRTY, -THIRTY,
+]
+
+
+def exactly(thing):
+    """A thing with the kinds of all its parts: 1 is unlike True there, and (1, 2) unlike [1, 2]."""
+    if isinstance(thing, (list, tuple)):
+        return (type(thing), [exactly(part) for part in thing])
+    return (type(thing), thing)
+
+
+def shown(thing):
+    try:
+        return repr(thing)
+    except ValueError:
+        return "numbers of too many figures to be shown"
+
+
 class Case(unittest.TestCase):
     def refused(self, name, function, *handed):
         """The call is refused with just that class, and leaves what is handed in as it was."""
@@ -60,12 +123,13 @@ class Case(unittest.TestCase):
             function(*handed)
         self.assertIs(type(caught.exception), getattr(errors, name), (function.__name__, handed))
         self.assertIsInstance(caught.exception, errors.RoundError)
-        self.assertEqual(repr(handed), repr(before))
+        self.assertEqual(exactly(handed), exactly(before))
 
     def told(self, worth, function, *handed):
         """The call tells just that, of that very kind, twice, and leaves what is handed in as it was."""
         before = copy.deepcopy(handed)
         for _ in range(2):
-            # repr tells 1 from True and (1, 2) from [1, 2], which == does not always do.
-            self.assertEqual(repr(function(*handed)), repr(worth), (function.__name__, handed))
-        self.assertEqual(repr(handed), repr(before))
+            told = function(*handed)
+            if exactly(told) != exactly(worth):
+                self.fail(f"{function.__name__} of {shown(handed)} told {shown(told)}, not {shown(worth)}")
+        self.assertEqual(exactly(handed), exactly(before))

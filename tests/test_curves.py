@@ -3,101 +3,15 @@
 import unittest
 from fractions import Fraction
 from itertools import combinations, permutations
-from math import gcd
 
 from roundsides.curves import (
     curve_has, curve_through, curve_touches, curve_touching, dual_curve, is_curve, kept_curve,
 )
 from roundsides.points import joined, kept_triple
-from tests.support import FORTY, THIRTY, Case, anything, number_row
-
-CIRCLE = (1, 1, -1, 0, 0, 0)
-TWISTED = ((1, 0, 0), (0, 1, 0), (0, 0, 1))
-
-
-def matrix(six):
-    """Twice the curve as a table of three rows of three."""
-    a, b, c, d, e, f = six
-    return [[2 * a, f, e], [f, 2 * b, d], [e, d, 2 * c]]
-
-
-def minor(rows, at, along):
-    kept_rows = [[row[k] for k in range(3) if k != along] for i, row in enumerate(rows) if i != at]
-    return kept_rows[0][0] * kept_rows[1][1] - kept_rows[0][1] * kept_rows[1][0]
-
-
-def rows_worth(rows):
-    return sum((-1) ** k * rows[0][k] * minor(rows, 0, k) for k in range(3))
-
-
-def oracle_kept(numbers):
-    divisor = gcd(*numbers)
-    lead = next(number for number in numbers if number)
-    return tuple(number // (divisor if lead > 0 else -divisor) for number in numbers)
-
-
-def oracle_dual(six):
-    """The curve of the table of signed minors."""
-    rows = matrix(six)
-    signed = [[(-1) ** (i + k) * minor(rows, i, k) for k in range(3)] for i in range(3)]
-    numbers = [signed[i][i] for i in range(3)] + [2 * signed[1][2], 2 * signed[0][2], 2 * signed[0][1]]
-    return oracle_kept(numbers)
-
-
-def curves():
-    """Ordinary ones, such with many noughts, and such of numbers of forty figures."""
-    made = [
-        CIRCLE, (1, 1, 1, 0, 0, 0), (1, 1, -4, 0, 0, 0), (1, 1, -1, 0, 2, 0), (0, 1, 0, 0, 2, 0), (0, 0, 0, 1, 1, 1),
-        (0, 0, 1, 0, 0, 1), (2, 3, 5, 7, 11, 13), (1, -2, 3, -4, 5, -6), (0, 0, 0, 3, -5, 7), (1, 0, 0, 1, 0, 0),
-        (FORTY, 1, -1, 0, 0, 0), (1, 1, -FORTY, 0, 0, 0), (0, 0, 1, 0, 0, FORTY), (FORTY, FORTY + 1, 3, 1, 1, 1),
-    ]
-    for seed, most in ((11, 3), (12, 9), (13, 99), (14, 10 ** 30), (15, 10 ** 40 - 1)):
-        row = number_row(seed, 36, most)
-        for at in range(0, 36, 6):
-            six = row[at:at + 6]
-            if any(six) and rows_worth(matrix(six)) != 0:
-                made.append(oracle_kept(six))
-    return made
-
-
-FLAT = [
-    (0, 0, 0, 0, 0, 0), (1, 0, 0, 0, 0, 0), (0, 0, 1, 0, 0, 0), (0, 0, 0, 0, 0, 1), (1, 1, 0, 0, 0, 0),
-    (1, -1, 0, 0, 0, 0), (1, 1, 1, 2, 2, 2), (1, 4, 0, 0, 0, 4), (0, 0, 0, 1, 1, 0), (1, FORTY, 0, 0, 0, 0),
-    (1, FORTY * FORTY, 0, 0, 0, 2 * FORTY),
-]
-
-UNKEPT = [
-    (-1, -1, 1, 0, 0, 0), (2, 2, -2, 0, 0, 0), (0, -1, 0, 0, 2, 0), (0, 0, 0, 2, 2, 2), (3, 3, 3, 0, 0, 6),
-    (-FORTY, 1, 1, 0, 0, 0), (2 * FORTY, 2, 2, 0, 0, 0), (0, 0, 0, 0, 0, 2), (2, 0, 0, 0, 0, 0),
-]
-
-NO_CURVES = anything() + FLAT + UNKEPT + [
-    (1, 0, 0), (1, 2), (1, 1, -1, 0, 0), (1, 1, -1, 0, 0, 0, 0), [1, 1, -1, 0, 0, 0], (1, 1, -1, 0, 0, False),
-]
-
-NO_TRIPLES = anything() + [(0, 0, 0), (2, 0, 0), (-1, 0, 0), (0, -1, 1), (1, 2), CIRCLE, [1, 0, 0], (1, 0, False)]
-
-
-def circle_points(rows, many):
-    """Points of the circle, moved by a table of three rows."""
-    points = []
-    for t in range(many):
-        here = (2 * t, 1 - t * t, 1 + t * t)
-        points.append(kept_triple(tuple(sum(x * y for x, y in zip(row, here)) for row in rows)))
-    return points
-
-
-TABLES = [
-    TWISTED,
-    ((1, 2, 0), (0, 1, 3), (1, 0, 1)),
-    ((2, -1, 1), (1, 1, 0), (0, 3, 5)),
-    ((THIRTY, 1, 0), (0, 1, THIRTY), (1, 1, 1)),
-]
-
-
-def tangent(curve, point):
-    """The line that touches a curve in one of its points."""
-    return kept_triple(tuple(sum(x * y for x, y in zip(row, point)) for row in matrix(curve)))
+from tests.oracles import (
+    TABLES, circle_points, curves, matrix, oracle_dual, oracle_kept, rows_worth, tangent,
+)
+from tests.support import CIRCLE, FLAT, FORTY, NO_CURVES, NO_TRIPLES, THIRTY, Case, anything, number_row
 
 
 def solved(points):

@@ -33,6 +33,18 @@ INTERFACE = {
         "is_curve": ("thing",), "kept_curve": ("six",), "curve_has": ("curve", "point"), "dual_curve": ("curve",),
         "curve_touches": ("curve", "line"), "curve_through": ("points",), "curve_touching": ("lines",),
     },
+    "walks": {
+        "is_flag": ("outer", "inner", "thing"), "next_flag": ("outer", "inner", "flag"),
+        "flag_back": ("outer", "inner", "flag"), "walk": ("outer", "inner", "flag", "many"),
+    },
+    "pairs": {"is_pair": ("outer", "inner"), "pair_cubic": ("outer", "inner")},
+    "rows": {
+        "root_row": ("cubic", "many"), "ring_table": ("cubic", "sides"), "table_worth": ("rows",),
+        "comes_back": ("cubic", "sides"),
+    },
+    "spots": {
+        "is_spot": ("cubic", "thing"), "spot_sum": ("cubic", "one", "other"), "spot_times": ("cubic", "spot", "many"),
+    },
 }
 
 
