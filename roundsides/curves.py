@@ -1,6 +1,7 @@
 """Curves of second kind: six whole numbers (a, b, c, d, e, f) of axx + byy + czz + dyz + exz + fxy."""
 
 from roundsides.errors import NoCurve, NoTriple
+from roundsides.fracs import one_bottom
 from roundsides.points import cross, dot, is_triple, need_triple
 from roundsides.wholes import are_kept, are_wholes, kept
 
@@ -21,6 +22,11 @@ def kept_curve(six):
     if not are_wholes(six, 6) or determinant(six) == 0:
         raise NoCurve("these six make no curve")
     return kept(six)
+
+
+def fraction_curve(six):
+    """The curve that six fractions are times one fraction."""
+    return kept_curve(tuple(one_bottom(six)[1]))
 
 
 def need_curve(thing):

@@ -9,6 +9,11 @@ def is_triple(thing):
     return are_wholes(thing, 3) and are_kept(thing)
 
 
+def are_two_triples(thing):
+    """Whether anything is a tuple of two triples."""
+    return isinstance(thing, tuple) and len(thing) == 2 and all([is_triple(part) for part in thing])
+
+
 def kept_triple(three):
     """The triple that three whole numbers, not all 0, are times one fraction."""
     if not are_wholes(three, 3) or three == (0, 0, 0):

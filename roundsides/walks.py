@@ -3,7 +3,7 @@
 from roundsides.curves import determinant, dual_curve, meets, worth_at
 from roundsides.errors import NoFlag
 from roundsides.pairs import need_pair
-from roundsides.points import dot, is_triple
+from roundsides.points import are_two_triples, dot
 from roundsides.wholes import common_divisor, first_sign, need_within
 
 
@@ -15,7 +15,7 @@ def is_flag(outer, inner, thing):
 
 def fits(outer, dual, thing):
     """Whether anything is a flag of an outer curve and of the inner one whose dual is handed in."""
-    if not isinstance(thing, tuple) or len(thing) != 2 or not all([is_triple(part) for part in thing]):
+    if not are_two_triples(thing):
         return False
     point, line = thing
     return dot(point, line) == 0 and worth_at(outer, point) == 0 and worth_at(dual, line) == 0

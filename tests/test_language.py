@@ -45,6 +45,18 @@ INTERFACE = {
     "spots": {
         "is_spot": ("cubic", "thing"), "spot_sum": ("cubic", "one", "other"), "spot_times": ("cubic", "spot", "many"),
     },
+    "clocks": {
+        "clocks_of": ("outer", "inner"), "rest_flags": ("outer", "inner", "clock"),
+        "rest_next": ("outer", "inner", "clock", "flag"), "rest_order": ("outer", "inner", "clock"),
+    },
+    "counts": {
+        "ring_count": ("outer", "inner"), "ring_paper": ("outer", "inner"), "judge_paper": ("outer", "inner", "paper"),
+    },
+    "chords": {"chord_curve": ("outer", "inner", "steps")},
+    "rings": {
+        "ring_curves": ("corners", "points", "lines"), "six_curves": ("corners",), "count_cubic": ("sides", "t"),
+        "cubic_curves": ("cubic",),
+    },
 }
 
 
